@@ -1,0 +1,1 @@
+"""Unlikerow: how many unlike numbers in each window of a row."""

@@ -229,8 +229,8 @@ class Ends(Case):
 
 class AskersOwn(Case):
     def answers(self, ready, row):
-        places = range(len(row) + 1)
-        return ([(ready.unlike(first, behind), ready.firsts(first, behind)) for first, behind in some_windows(row)[::9]],
+        windows, places = some_windows(row)[::9], range(len(row) + 1)
+        return ([(ready.unlike(first, behind), ready.firsts(first, behind)) for first, behind in windows],
                 [(ready.end_of(place, many), ready.begin_of(place, many)) for place in places for many in range(4)])
 
     def test_the_row_stays(self):

@@ -1,7 +1,11 @@
-"""Rows and odd things that several tests hand in."""
+"""Rows, windows and odd things that several tests hand in, and what they hold the answers against."""
 
+import copy
 import itertools
 import random
+import unittest
+
+from unlikerow.errors import NoCommand, NoNeeds, NoPlace, NoRow, NoTable, NoWindow, RowError
 
 GREAT = 10 ** 20
 
@@ -37,6 +41,53 @@ def long_rows():
         crowded,
         list(range(300)),
     ]
+
+
+def small_rows():
+    return list(short_rows()) + [row for row in long_rows() if len(row) <= 40]
+
+
+def great_rows():
+    return [row for row in long_rows() if len(row) == 300]
+
+
+def all_unlike(length):
+    return list(range(length, 0, -1))
+
+
+def all_alike(length):
+    return [-GREAT] * length
+
+
+def round_and_round(unlike, length):
+    return [GREAT - place % unlike for place in range(length)]
+
+
+def each_so_often(times, length):
+    return [GREAT - place // times for place in range(length)]
+
+
+def all_windows(row):
+    return [(first, behind) for first in range(len(row) + 1) for behind in range(first, len(row) + 1)]
+
+
+def some_windows(row, seed=1):
+    """The narrowest and widest windows, those at the ends, and some others."""
+    length = len(row)
+    source = random.Random(seed)
+    places = range(length + 1)
+    windows = [(place, place) for place in places] + [(place, place + 1) for place in range(length)]
+    windows += [(0, behind) for behind in places] + [(first, length) for first in places]
+    windows += [tuple(sorted((source.choice(places), source.choice(places)))) for step in range(1000)]
+    return windows
+
+
+def firsts_by_looking(row, first, behind):
+    return [place for place in range(first, behind) if row[place] not in row[first:place]]
+
+
+def unlike_by_looking(row, first, behind):
+    return len(set(row[first:behind]))
 
 
 def deep_list(depth=20000):
@@ -87,3 +138,54 @@ def odd_things():
         ("deep list", deep_list()), ("deep tuple", deep_tuple()), ("deep dict", deep_dict()),
         ("ring", ring()), ("stubborn", Stubborn()),
     ]
+
+
+def no_places(length):
+    """Things that are no place from 0 to the length, each with a name."""
+    numbers = (-1, -2, -length - 1, length + 1, length + 2, GREAT, -GREAT, 10 ** 5000)
+    return [(f"number {rank}", number) for rank, number in enumerate(numbers)] + odd_things()
+
+
+class Case(unittest.TestCase):
+    def assert_no_window(self, ask, *things):
+        with self.assertRaises(NoWindow) as caught:
+            ask(*things)
+        self.assertIs(type(caught.exception), NoWindow)
+        self.assertIsInstance(caught.exception, RowError)
+        self.assertIsInstance(caught.exception, ValueError)
+        self.assertNotIsInstance(caught.exception, (NoTable, NoNeeds, NoPlace, NoRow, NoCommand))
+
+    def assert_whole(self, *numbers):
+        """An int, and no truth, which would equal one."""
+        for number in numbers:
+            self.assertIs(type(number), int)
+
+    def assert_list_of_whole(self, told):
+        self.assertIs(type(told), list)
+        self.assert_whole(*told)
+
+    def assert_tuple_of_whole(self, told, length):
+        self.assertIs(type(told), tuple)
+        self.assertEqual(len(told), length)
+        self.assert_whole(*told)
+
+    def assert_askers_own(self, ask, row, *more):
+        """The row stays; what becomes of it or of what was told of it changes no answer."""
+        kept = list(row)
+        told = ask(row, *more)
+        right = copy.deepcopy(told)
+        self.assertEqual(row, kept)
+        row.reverse()
+        row.append(4)
+        row[0] = 10 ** 6
+        self.assertEqual(told, right)
+        self.assertEqual(ask(list(kept), *more), right)
+        changed = ask(list(row), *more)
+        self.assertEqual(ask(row, *more), changed)
+        row.clear()
+        row.extend(kept)
+        if isinstance(told, list):
+            told.append("spoilt")
+            told[0] = None
+        self.assertEqual(ask(row, *more), right)
+        self.assertEqual(row, kept)

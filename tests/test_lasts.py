@@ -3,7 +3,7 @@
 import itertools
 import unittest
 
-from samples import GREAT, deep_dict, deep_list, deep_tuple, long_rows, odd_things, random_row, short_rows
+from samples import Case, GREAT, deep_dict, deep_list, deep_tuple, long_rows, odd_things, random_row, short_rows
 from unlikerow.errors import NoTable
 from unlikerow.lasts import are_lasts, last_places, next_places, plain_row, row_of
 
@@ -31,13 +31,6 @@ def are_lasts_by_looking(numbers):
     return all(-1 <= last < place for place, last in enumerate(numbers)) and len(told) == len(set(told))
 
 
-class Case(unittest.TestCase):
-    def assert_whole(self, numbers):
-        self.assertIs(type(numbers), list)
-        for number in numbers:
-            self.assertIs(type(number), int)
-
-
 class Places(Case):
     def test_written_out(self):
         self.assertEqual(last_places([3, -1, 3, 3, 5, -1]), [-1, -1, 0, 2, -1, 1])
@@ -61,8 +54,8 @@ class Places(Case):
             with self.subTest(row=row):
                 self.assertEqual(last_places(row), lasts_by_looking(row))
                 self.assertEqual(next_places(row), nexts_by_looking(row))
-                self.assert_whole(last_places(row))
-                self.assert_whole(next_places(row))
+                self.assert_list_of_whole(last_places(row))
+                self.assert_list_of_whole(next_places(row))
 
 
 class Plain(Case):
@@ -75,7 +68,7 @@ class Plain(Case):
         for row in all_rows():
             with self.subTest(row=row):
                 self.assertEqual(plain_row(row), plain_by_looking(row))
-                self.assert_whole(plain_row(row))
+                self.assert_list_of_whole(plain_row(row))
 
     def test_numbers_called_otherwise(self):
         for row in all_rows():
@@ -124,7 +117,7 @@ class Lasts(Case):
             with self.subTest(row=row):
                 self.assertIs(are_lasts(lasts_by_looking(row)), True)
                 self.assertEqual(row_of(lasts_by_looking(row)), plain_by_looking(row))
-                self.assert_whole(row_of(lasts_by_looking(row)))
+                self.assert_list_of_whole(row_of(lasts_by_looking(row)))
 
     def test_every_short_list(self):
         for length in range(5):

@@ -3,40 +3,9 @@
 import random
 import unittest
 
-from samples import GREAT, long_rows, odd_things, random_row, short_rows
-from unlikerow.errors import NoWindow
+from samples import (Case, GREAT, all_windows, firsts_by_looking, great_rows, long_rows, no_places, random_row,
+                     short_rows, small_rows, some_windows, unlike_by_looking)
 from unlikerow.ready import Ready
-
-
-def small_rows():
-    return list(short_rows()) + [row for row in long_rows() if len(row) <= 40]
-
-
-def great_rows():
-    return [row for row in long_rows() if len(row) == 300]
-
-
-def all_windows(row):
-    return [(first, behind) for first in range(len(row) + 1) for behind in range(first, len(row) + 1)]
-
-
-def some_windows(row, seed=1):
-    """The narrowest and widest windows, those at the ends, and some others."""
-    length = len(row)
-    source = random.Random(seed)
-    places = range(length + 1)
-    windows = [(place, place) for place in places] + [(place, place + 1) for place in range(length)]
-    windows += [(0, behind) for behind in places] + [(first, length) for first in places]
-    windows += [tuple(sorted((source.choice(places), source.choice(places)))) for step in range(1000)]
-    return windows
-
-
-def firsts_by_looking(row, first, behind):
-    return [place for place in range(first, behind) if row[place] not in row[first:place]]
-
-
-def unlike_by_looking(row, first, behind):
-    return len(set(row[first:behind]))
 
 
 def end_by_trying(row, first, many):
@@ -49,18 +18,7 @@ def begin_by_trying(row, behind, many):
     return max([first for first in firsts if unlike_by_looking(row, first, behind) == many], default=None)
 
 
-def no_places(length):
-    """Things that are no place from 0 to the length, each with a name."""
-    numbers = (-1, -2, -length - 1, length + 1, length + 2, GREAT, -GREAT, 10 ** 5000)
-    return [(f"number {rank}", number) for rank, number in enumerate(numbers)] + odd_things()
-
-
-class Case(unittest.TestCase):
-    def assert_no_window(self, ask, *things):
-        with self.assertRaises(NoWindow) as caught:
-            ask(*things)
-        self.assertIs(type(caught.exception), NoWindow)
-
+class WindowCase(Case):
     def assert_no_windows(self, name_of_ask):
         """What point 8 refuses, and that good windows are told behind it as ahead of it."""
         for row in ([], [5], [2, 7, 2, 2], random_row(7, 300, list(range(9)))):
@@ -87,7 +45,7 @@ class Case(unittest.TestCase):
             self.assert_no_window(ask, first, behind)
 
 
-class Unlike(Case):
+class Unlike(WindowCase):
     def test_written_out(self):
         ready = Ready([3, -1, 3, 3, 5, -1])
         told = [ready.unlike(0, behind) for behind in range(7)]
@@ -130,7 +88,7 @@ class Unlike(Case):
         self.assert_truths_refused(Ready([4, 4, 6]).unlike)
 
 
-class Firsts(Case):
+class Firsts(WindowCase):
     def test_written_out(self):
         ready = Ready([3, -1, 3, 3, 5, -1])
         self.assertEqual(ready.firsts(0, 6), [0, 1, 4])

@@ -23,7 +23,7 @@ def random_row(seed, length, numbers):
 
 
 def long_rows():
-    """Rows of none, of one, of forty and of 300; few unlike numbers and more than 200."""
+    """Rows of none, of one, of twelve, of forty and of 300; few unlike numbers and more than 200."""
     many = list(range(-GREAT, GREAT + 1, GREAT // 125))
     several = random_row(1, 300, many)
     crowded = several[:50] + random.Random(2).sample(many, 250)
@@ -32,6 +32,9 @@ def long_rows():
         [0],
         [-GREAT],
         [GREAT],
+        random_row(43, 12, [GREAT - 1, GREAT, -GREAT, 1 - GREAT]),
+        random_row(44, 12, [-1, 0, 1]),
+        random_row(45, 12, list(range(7 - 10 ** 15, 15 - 10 ** 15))),
         [7] * 40,
         list(range(40)),
         random_row(3, 40, [-GREAT, -1, 0, 1, GREAT]),
@@ -90,6 +93,10 @@ def unlike_by_looking(row, first, behind):
     return len(set(row[first:behind]))
 
 
+def shortest_by_trying(windows):
+    return min(windows, key=lambda window: (window[1] - window[0], window[0]), default=None)
+
+
 def deep_list(depth=20000):
     thing = []
     for step in range(depth):
@@ -146,14 +153,28 @@ def no_places(length):
     return [(f"number {rank}", number) for rank, number in enumerate(numbers)] + odd_things()
 
 
+def spoil(told):
+    """Grows and overwrites a told list, and each list in it."""
+    for inner in told:
+        if isinstance(inner, list):
+            spoil(inner)
+    told.append("spoilt")
+    told[0] = None
+
+
 class Case(unittest.TestCase):
-    def assert_no_window(self, ask, *things):
-        with self.assertRaises(NoWindow) as caught:
+    def assert_refused(self, refusal, ask, *things):
+        """By this class itself, which is under no other refusal's."""
+        with self.assertRaises(refusal) as caught:
             ask(*things)
-        self.assertIs(type(caught.exception), NoWindow)
+        self.assertIs(type(caught.exception), refusal)
         self.assertIsInstance(caught.exception, RowError)
         self.assertIsInstance(caught.exception, ValueError)
-        self.assertNotIsInstance(caught.exception, (NoTable, NoNeeds, NoPlace, NoRow, NoCommand))
+        for other in (NoTable, NoWindow, NoNeeds, NoPlace, NoRow, NoCommand):
+            self.assertEqual(isinstance(caught.exception, other), other is refusal)
+
+    def assert_no_window(self, ask, *things):
+        self.assert_refused(NoWindow, ask, *things)
 
     def assert_whole(self, *numbers):
         """An int, and no truth, which would equal one."""
@@ -169,23 +190,36 @@ class Case(unittest.TestCase):
         self.assertEqual(len(told), length)
         self.assert_whole(*told)
 
+    def assert_list_of_tuples(self, told, length):
+        self.assertIs(type(told), list)
+        for one in told:
+            self.assert_tuple_of_whole(one, length)
+
+    def assert_window_or_none(self, told):
+        if told is not None:
+            self.assert_tuple_of_whole(told, 2)
+
     def assert_askers_own(self, ask, row, *more):
-        """The row stays; what becomes of it or of what was told of it changes no answer."""
-        kept = list(row)
+        """What is handed in stays; what becomes of it or of what was told changes no answer."""
+        kept = copy.deepcopy((row,) + more)
+        lists = [thing for thing in more if isinstance(thing, list)]
         told = ask(row, *more)
         right = copy.deepcopy(told)
-        self.assertEqual(row, kept)
+        self.assertEqual((row,) + more, kept)
         row.reverse()
         row.append(4)
         row[0] = 10 ** 6
+        for thing in lists:
+            thing.clear()
         self.assertEqual(told, right)
-        self.assertEqual(ask(list(kept), *more), right)
-        changed = ask(list(row), *more)
+        self.assertEqual(ask(*copy.deepcopy(kept)), right)
+        changed = ask(*copy.deepcopy((row,) + more))
         self.assertEqual(ask(row, *more), changed)
         row.clear()
-        row.extend(kept)
+        row.extend(kept[0])
+        for thing, right_thing in zip(lists, [thing for thing in kept[1:] if isinstance(thing, list)]):
+            thing.extend(right_thing)
         if isinstance(told, list):
-            told.append("spoilt")
-            told[0] = None
+            spoil(told)
         self.assertEqual(ask(row, *more), right)
-        self.assertEqual(row, kept)
+        self.assertEqual((row,) + more, kept)

@@ -3,7 +3,7 @@
 import unittest
 
 from samples import (Case, GREAT, all_alike, all_unlike, each_so_often, great_rows, long_rows, random_row,
-                     round_and_round, short_rows, small_rows)
+                     round_and_round, short_rows, shortest_by_trying, small_rows)
 from unlikerow.somany import counts, how_many, longest, longest_within, shortest, stretches
 
 
@@ -29,10 +29,6 @@ def longest_by_trying(windows, none=None):
     return min(windows, key=lambda window: (window[0] - window[1], window[0]), default=none)
 
 
-def shortest_by_trying(windows):
-    return min(windows, key=lambda window: (window[1] - window[0], window[0]), default=None)
-
-
 def some_manys(row):
     """From 0 on: few, about the greatest there is, about the row's length, and far more."""
     unlike, length = len(set(row)), len(row)
@@ -40,18 +36,7 @@ def some_manys(row):
     return sorted(near) + [GREAT, 10 ** 60, 10 ** 5000]
 
 
-class SoManyCase(Case):
-    def assert_window_or_none(self, told):
-        if told is not None:
-            self.assert_tuple_of_whole(told, 2)
-
-    def assert_list_of_stretches(self, told):
-        self.assertIs(type(told), list)
-        for stretch in told:
-            self.assert_tuple_of_whole(stretch, 3)
-
-
-class Stretches(SoManyCase):
+class Stretches(Case):
     def test_written_out(self):
         row = [3, -1, 3, 3, 5, -1]
         self.assertEqual(stretches(row, 0), [])
@@ -70,7 +55,7 @@ class Stretches(SoManyCase):
             for many in some_manys(row):
                 told = stretches(row, many)
                 self.assertEqual(told, stretches_by_trying(windows.get(many, [])))
-                self.assert_list_of_stretches(told)
+                self.assert_list_of_tuples(told, 3)
 
     def test_all_behinds_between_and_no_others(self):
         for row in small_rows():
@@ -80,7 +65,7 @@ class Stretches(SoManyCase):
                 self.assertEqual(spread, windows)
 
 
-class Counts(SoManyCase):
+class Counts(Case):
     def test_written_out(self):
         row = [3, -1, 3, 3, 5, -1]
         self.assertEqual(counts(row), [0, 7, 8, 6])
@@ -104,7 +89,7 @@ class Counts(SoManyCase):
                 self.assert_whole(how_many(row, many))
 
 
-class Longest(SoManyCase):
+class Longest(Case):
     def test_written_out(self):
         row = [3, -1, 3, 3, 5, -1]
         self.assertEqual([longest(row, many) for many in range(5)], [None, (2, 4), (0, 4), (0, 6), None])
@@ -134,7 +119,7 @@ class Longest(SoManyCase):
                 self.assert_window_or_none(near)
 
 
-class LongestWithin(SoManyCase):
+class LongestWithin(Case):
     def test_written_out(self):
         row = [3, -1, 3, 3, 5, -1]
         self.assertEqual([longest_within(row, many) for many in range(5)], [(0, 0), (2, 4), (0, 4), (0, 6), (0, 6)])
@@ -167,7 +152,7 @@ class LongestWithin(SoManyCase):
                 self.assert_tuple_of_whole(told, 2)
 
 
-class RowsToldByHand(SoManyCase):
+class RowsToldByHand(Case):
     def assert_none(self, row, many):
         self.assertEqual(stretches(row, many), [])
         self.assertEqual(how_many(row, many), 0)
@@ -229,7 +214,7 @@ class RowsToldByHand(SoManyCase):
             self.assert_none(row, unlike + 1)
 
 
-class AskersOwn(SoManyCase):
+class AskersOwn(Case):
     def test_of_every_ask(self):
         for row in list(short_rows(3)) + long_rows():
             self.assert_askers_own(counts, row)

@@ -3,11 +3,15 @@
 import copy
 import itertools
 import random
+import re
 import unittest
 
 from unlikerow.errors import NoCommand, NoNeeds, NoPlace, NoRow, NoTable, NoWindow, RowError
 
 GREAT = 10 ** 20
+NUMBERS = [-GREAT, 1 - GREAT, -1, 0, 1, 2, 3, GREAT - 1, GREAT]
+NUMBER_TEXT = "(0|-?[1-9][0-9]{0,29})"
+ROW_TEXT = f"-|{NUMBER_TEXT}( {NUMBER_TEXT})*"
 
 
 def short_rows(longest=4, unlike=3):
@@ -93,6 +97,17 @@ def unlike_by_looking(row, first, behind):
     return len(set(row[first:behind]))
 
 
+def plain_by_looking(row):
+    return [len(set(row[:row.index(number)])) for number in row]
+
+
+def row_by_looking(text):
+    """The row of a row's text, or None."""
+    if not re.fullmatch(ROW_TEXT, text):
+        return None
+    return [] if text == "-" else [int(word) for word in text.split(" ")]
+
+
 def shortest_by_trying(windows):
     return min(windows, key=lambda window: (window[1] - window[0], window[0]), default=None)
 
@@ -160,6 +175,45 @@ def spoil(told):
             spoil(inner)
     told.append("spoilt")
     told[0] = None
+
+
+class Beside:
+    """A list kept beside a live row, with every earlier state of it."""
+
+    def __init__(self, row):
+        self.now = list(row)
+        self.earlier = []
+
+    def step(self, do, place, number):
+        """Does one of the four; tells what the live row is to tell."""
+        if do == "undo":
+            if not self.earlier:
+                return False
+            self.now = self.earlier.pop()
+            return True
+        self.earlier.append(list(self.now))
+        if do == "put":
+            self.now.insert(place, number)
+            return None
+        gone = self.now[place]
+        if do == "take":
+            del self.now[place]
+            return gone
+        self.now[place] = number
+        return None
+
+
+def random_step(source, length, most=300):
+    do = source.choice(("change", "change", "put", "put", "take", "undo"))
+    if length == 0 and do in ("change", "take"):
+        do = "put"
+    if length >= most and do == "put":
+        do = "take"
+    place = source.randrange(length + 1 if do == "put" else max(1, length))
+    # At the ends a place too far or too near shows first.
+    if source.random() < 0.3 and length > 0:
+        place = source.choice((0, length if do == "put" else length - 1))
+    return (do, place, source.choice(NUMBERS))
 
 
 class Case(unittest.TestCase):

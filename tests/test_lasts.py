@@ -3,7 +3,8 @@
 import itertools
 import unittest
 
-from samples import Case, GREAT, deep_dict, deep_list, deep_tuple, long_rows, odd_things, random_row, short_rows
+from samples import (Case, GREAT, deep_dict, deep_list, deep_tuple, long_rows, odd_things, plain_by_looking,
+                     random_row, short_rows)
 from unlikerow.errors import NoTable
 from unlikerow.lasts import are_lasts, last_places, next_places, plain_row, row_of
 
@@ -20,10 +21,6 @@ def nexts_by_looking(row):
     length = len(row)
     return [min([other for other in range(place + 1, length) if row[other] == row[place]], default=length)
             for place in range(length)]
-
-
-def plain_by_looking(row):
-    return [len(set(row[:row.index(number)])) for number in row]
 
 
 def are_lasts_by_looking(numbers):

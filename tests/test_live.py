@@ -4,39 +4,11 @@ import itertools
 import random
 import unittest
 
-from samples import (Case, GREAT, all_windows, firsts_by_looking, long_rows, no_places, random_row,
-                     short_rows, some_windows, unlike_by_looking)
+from samples import (Beside, Case, GREAT, NUMBERS, all_windows, firsts_by_looking, long_rows, no_places, random_row,
+                     random_step, short_rows, some_windows, unlike_by_looking)
 from unlikerow.errors import NoPlace, NoWindow
 from unlikerow.live import Live
 from unlikerow.ready import Ready
-
-NUMBERS = [-GREAT, 1 - GREAT, -1, 0, 1, 2, 3, GREAT - 1, GREAT]
-
-
-class Beside:
-    """A list kept beside a live row, with every earlier state of it."""
-
-    def __init__(self, row):
-        self.now = list(row)
-        self.earlier = []
-
-    def step(self, do, place, number):
-        """Does one of the four; tells what the live row is to tell."""
-        if do == "undo":
-            if not self.earlier:
-                return False
-            self.now = self.earlier.pop()
-            return True
-        self.earlier.append(list(self.now))
-        if do == "put":
-            self.now.insert(place, number)
-            return None
-        gone = self.now[place]
-        if do == "take":
-            del self.now[place]
-            return gone
-        self.now[place] = number
-        return None
 
 
 def step_of(live, do, place, number):
@@ -56,19 +28,6 @@ def steps_for(row):
                 yield ("change", place, number)
         if place < len(row):
             yield ("take", place, None)
-
-
-def random_step(source, length, most=300):
-    do = source.choice(("change", "change", "put", "put", "take", "undo"))
-    if length == 0 and do in ("change", "take"):
-        do = "put"
-    if length >= most and do == "put":
-        do = "take"
-    place = source.randrange(length + 1 if do == "put" else max(1, length))
-    # At the ends a place too far or too near shows first.
-    if source.random() < 0.3 and length > 0:
-        place = source.choice((0, length if do == "put" else length - 1))
-    return (do, place, source.choice(NUMBERS))
 
 
 class LiveCase(Case):
